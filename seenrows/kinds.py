@@ -1,0 +1,33 @@
+"""Questions about passed objects, of which nothing is known yet."""
+
+PRIMES = (2, 3, 5, 7)
+
+
+def is_int(thing):
+    """Tell whether the thing is an integer; True and False are none."""
+    return isinstance(thing, int) and not isinstance(thing, bool)
+
+
+def is_list(thing):
+    """Tell whether the thing is a list, or a tuple in the place of one."""
+    return isinstance(thing, (list, tuple))
+
+
+def is_prime(thing):
+    """Tell whether the thing is one of the primes of the package."""
+    return is_int(thing) and thing in PRIMES
+
+
+def is_term(thing):
+    """Tell whether the thing is a list of two integers."""
+    return is_list(thing) and len(thing) == 2 and is_int(thing[0]) and is_int(thing[1])
+
+
+def first_bad_term(terms):
+    """Return the index of the first thing in terms that is no term, None if there is none."""
+    if not is_list(terms):
+        return 0
+    for index, thing in enumerate(terms):
+        if not is_term(thing):
+            return index
+    return None
