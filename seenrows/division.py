@@ -1,15 +1,22 @@
 """What filters divide, and what divides them."""
 
-from seenrows.filters import check_primes
+from seenrows.filters import Filter, check_primes, places
+from seenrows.packs import NARROW, pack, top_slot, unpack
+from seenrows.reduction import reduced
 
 
 def gcd(f, g):
     """Return the normal filter that divides both and that each filter divides that does so."""
     check_primes(f, g)
-    divided, divisor = f.normal(), g.normal()
-    while divisor:
-        divided, divisor = divisor, divided % divisor
-    return divided.normal()
+    if not f or not g:
+        return (f + g).normal()
+    longer, shorter = (f, g) if f.span() > g.span() else (g, f)
+    # One remainder brings the terms near, however far away they are.
+    rest = longer % shorter
+    if not rest:
+        return shorter.normal()
+    common = reduced(f.prime, [pack(places(rest), NARROW), pack(places(shorter), NARROW)], 1)[0]
+    return Filter(f.prime, list(enumerate(unpack(common, NARROW, top_slot(common) + 1)))).normal()
 
 
 def lcm(f, g):

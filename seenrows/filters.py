@@ -2,6 +2,7 @@
 
 from seenrows.errors import BadPrime, BadTerm, UnlikePrimes, ZeroFilter
 from seenrows.kinds import first_bad_term, is_int, is_prime
+from seenrows.packs import multiplied
 from seenrows.remainders import collected, inverse, long_division, remainder
 
 
@@ -23,15 +24,28 @@ def scaled(f, number):
     return Filter(f.prime, [(offset, coefficient * number) for offset, coefficient in f.pairs])
 
 
+def places(f):
+    """Return the list of all coefficients of f, a filter with terms, from its least offset to its greatest one."""
+    return [f[offset] for offset in range(f.low(), f.high() + 1)]
+
+
+def is_dense(f, g):
+    """Tell whether few of the offsets between the least and the greatest one of the product are left out."""
+    return bool(f) and bool(g) and f.span() + g.span() < 4 * len(f.pairs) * len(g.pairs)
+
+
 def product(f, g):
     """Return the product of two filters of one prime."""
+    if is_dense(f, g):
+        first = f.low() + g.low()
+        digits = multiplied(f.prime, places(f), places(g))
+        return Filter(f.prime, [(first + at, digit) for at, digit in enumerate(digits)])
     return Filter(f.prime, [(low + high, one * two) for low, one in f.pairs for high, two in g.pairs])
 
 
 def divisor_of(g):
     """Return the list of all coefficients of the normal of g, a filter with terms, from the offset 0 on."""
-    normal = g.normal()
-    return [normal[offset] for offset in range(normal.high() + 1)]
+    return places(g.normal())
 
 
 class Filter:
@@ -75,6 +89,9 @@ class Filter:
         low = self.pairs[0][0]
         factor = inverse(self.prime, self.pairs[-1][1])
         return Filter(self.prime, [(offset - low, coefficient * factor) for offset, coefficient in self.pairs])
+
+    def __call__(self, x):
+        return x.filtered(self)
 
     def __bool__(self):
         return bool(self.pairs)

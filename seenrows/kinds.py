@@ -31,3 +31,13 @@ def first_bad_term(terms):
         if not is_term(thing):
             return index
     return None
+
+
+def is_digit(prime, thing):
+    """Tell whether the thing is a digit of the prime."""
+    return is_int(thing) and 0 <= thing < prime
+
+
+def is_digits(prime, count, thing):
+    """Tell whether the thing is a list of just so many digits of the prime."""
+    return is_list(thing) and len(thing) == count and all([is_digit(prime, digit) for digit in thing])

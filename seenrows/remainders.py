@@ -4,7 +4,9 @@ A DIVISOR is the list of all coefficients of a filter that equals its normal, fr
 the last one is 1 and the first one is not 0.
 """
 
-# Terms further away than this are brought near by powers, not place by place.
+from seenrows.packs import BLOCK, NARROW, SLOT, WIDE, WIDE_BITS, lowered, narrow_mask, pack, slot_mask, unpack, without
+
+# A term further away than this is brought near by powers, not place by place.
 NEAR = 1000
 
 
@@ -29,20 +31,49 @@ def long_division(prime, pairs, divisor):
     if not pairs:
         return [], [0 for place in range(span)]
     known = dict(pairs)
-    first = min(0, pairs[0][0])
-    last = max(int(pairs[-1][0]), span - 1)
-    lowest = inverse(prime, divisor[0])
-    rest = [known.get(place, 0) for place in range(first, last + 1)]
+    last = int(pairs[-1][0])
+    above, rest = divided_from_above(prime, [known.get(place, 0) for place in range(last, -1, -1)], divisor)
+    first = int(pairs[0][0])
+    # What is wiped out from below up to 0 does not come near the span again, so neither way undoes the other.
+    below, digits = divided_from_below(prime, [known.get(place, 0) for place in range(first, 0)], rest, divisor)
+    return above + below, digits
+
+
+def divided_from_above(prime, descending, divisor):
+    """Return the pairs of the quotient and the digits of the remainder; the digits that are passed end at 0."""
+    span = len(divisor) - 1
+    whole, mask = pack(divisor, NARROW), narrow_mask(span + 1)
     quotient = []
-    # From above down to the span, then from below up to 0: neither way touches what the other has wiped out.
-    for at in list(reversed(range(last - span + 1))) + list(range(first, 0)):
-        begin = at - first
-        share = rest[begin + span] if at >= 0 else rest[begin] * lowest % prime
+    window = 0
+    at = len(descending)
+    for digit in descending:
+        at -= 1
+        window = (window << SLOT) + digit
+        share = window >> (SLOT * span)
         if share:
-            window = rest[begin:begin + span + 1]
-            rest[begin:begin + span + 1] = [(old - share * digit) % prime for old, digit in zip(window, divisor)]
+            window = without(prime, window, share, whole, mask)
             quotient.append((at, share))
-    return quotient, rest[-first:span - first]
+    return quotient, unpack(window, NARROW, span)
+
+
+def divided_from_below(prime, ascending, rest, divisor):
+    """Return the pairs of the quotient and the digits of the remainder; the digits that are passed end below 0."""
+    span = len(divisor) - 1
+    whole, mask = pack(divisor, NARROW), narrow_mask(span + 1)
+    lowest = inverse(prime, divisor[0])
+    quotient = []
+    at = -len(ascending)
+    digits = ascending + rest
+    window = pack(digits[:span], NARROW)
+    for digit in digits[span:]:
+        window = window + (digit << (SLOT * span))
+        share = (window & ((1 << SLOT) - 1)) * lowest % prime
+        if share:
+            window = without(prime, window, share, whole, mask)
+            quotient.append((at, share))
+        window = window >> SLOT
+        at += 1
+    return quotient, unpack(window, NARROW, span)
 
 
 def remainder(prime, pairs, divisor):
@@ -55,19 +86,21 @@ def remainder(prime, pairs, divisor):
 
 def near_pairs(prime, pairs, divisor):
     """Return pairs, none of them far away, that have the same remainder as the passed ones."""
-    far = [pair for pair in pairs if abs(pair[0]) > NEAR]
+    # Going through all places in between serves many terms at once, so it pays the further the more there are.
+    reach = NEAR * len(pairs) + 4 * len(divisor)
+    far = [pair for pair in pairs if abs(pair[0]) > reach]
     if not far:
         return pairs
-    packed = packed_powers(prime, divisor)
+    powers = packed_powers(prime, divisor)
     digits = [0 for place in range(len(divisor) - 1)]
     for offset, coefficient in far:
-        power = power_digits(prime, divisor, packed, offset)
+        power = power_digits(prime, divisor, powers, offset)
         digits = [(old + coefficient * digit) % prime for old, digit in zip(digits, power)]
-    near = [pair for pair in pairs if abs(pair[0]) <= NEAR]
+    near = [pair for pair in pairs if abs(pair[0]) <= reach]
     return collected(prime, near + list(enumerate(digits)))
 
 
-def power_digits(prime, divisor, packed, offset):
+def power_digits(prime, divisor, powers, offset):
     """Return the digits of the remainder of the one term (offset, 1)."""
     stride = stride_of(prime)
     steps = []
@@ -78,8 +111,7 @@ def power_digits(prime, divisor, packed, offset):
     digits = long_division(prime, [(whole, 1)], divisor)[1]
     # The stride is a power of the prime, so a sum is raised to it by raising each of its terms to it.
     for step in reversed(list(steps)):
-        total = sum([digit * packed[stride * k + step] for k, digit in enumerate(digits)])
-        digits = unpacked(prime, divisor, total)
+        digits = packed_sum(prime, digits, powers[step::stride])
     return digits
 
 
@@ -92,25 +124,26 @@ def stride_of(prime):
 
 
 def packed_powers(prime, divisor):
-    """Return the remainders of the terms (k, 1), each packed into one integer, for all k that a step can need."""
+    """Return the wide packs of the remainders of the terms (k, 1), for all k that a step can need."""
     span = len(divisor) - 1
-    bits = slot_bits(prime, divisor)
-    digits = [1] + [0 for place in range(span - 1)]
-    packed = []
+    size = 4 * WIDE
+    whole, mask = pack(divisor, WIDE), slot_mask(WIDE, WIDE_BITS, span + 1)
+    power = 1
+    powers = []
     for k in range(stride_of(prime) * span):
-        packed.append(sum([digit << (bits * place) for place, digit in enumerate(digits)]))
-        highest = digits[-1]
-        digits = [(old - highest * taken) % prime for old, taken in zip([0] + digits, divisor[:-1])]
-    return packed
+        powers.append(power)
+        power = power << size
+        share = power >> (size * span)
+        if share:
+            power = lowered(prime, power + (prime - share) * whole, WIDE_BITS, mask)
+    return powers
 
 
-def unpacked(prime, divisor, total):
-    """Return the digits of a sum of packed remainders."""
-    bits = slot_bits(prime, divisor)
-    mask = (1 << bits) - 1
-    return [((total >> (bits * place)) & mask) % prime for place in range(len(divisor) - 1)]
-
-
-def slot_bits(prime, divisor):
-    """Return how many bits a slot needs for a sum of as many products of two digits as the divisor has places."""
-    return (len(divisor) * (prime - 1) ** 2).bit_length()
+def packed_sum(prime, digits, packs):
+    """Return the digits of the sum of wide packs, as many as there are digits, each multiplied by its digit."""
+    mask = slot_mask(WIDE, WIDE_BITS, len(digits))
+    total = 0
+    for at in range(0, len(digits), BLOCK):
+        part = sum([digit * one for digit, one in zip(digits[at:at + BLOCK], packs[at:at + BLOCK])])
+        total = lowered(prime, total + part, WIDE_BITS, mask)
+    return unpack(total, WIDE, len(digits))

@@ -25,6 +25,11 @@ BARRED_NAMES = "register mro elements open input law version_info with_traceback
 BARRED_STATEMENTS = (ast.Global, ast.AsyncFunctionDef, ast.AsyncFor, ast.AsyncWith, ast.Await, ast.Div, ast.Import)
 MODULE_LEVEL = (ast.ImportFrom, ast.FunctionDef, ast.ClassDef, ast.Assign, ast.Expr)
 TAKE_LISTS = "sum min max sorted any all".split()
+ORDERS = "__lt__ __le__ __gt__ __ge__".split()
+NUMBERS = "len int ord".split()
+COMPARE_OR_COUNT = """__eq__ __lt__ __le__ __gt__ __ge__ __ne__ __add__ __sub__ __mul__ __floordiv__ __mod__ __pow__ __radd__
+    __rsub__ __rmul__ __rfloordiv__ __rmod__""".split()
+CHANGES = "append extend insert pop remove reverse clear update setdefault".split()
 
 
 def sources():
@@ -190,6 +195,87 @@ class Names(unittest.TestCase):
         for path, node in nodes(ast.Call):
             if isinstance(node.func, ast.Name) and node.func.id in TAKE_LISTS:
                 self.assertFalse(any(isinstance(side, ast.GeneratorExp) for side in node.args), where(path, node))
+
+
+def own_lists(function):
+    """The names that a function assigns nothing but lists and dicts which it makes itself."""
+    made, other = set(), {arg.arg for arg in function.args.args}
+    for node in ast.walk(function):
+        if isinstance(node, ast.Assign):
+            for target in node.targets:
+                fresh = isinstance(target, ast.Name) and isinstance(node.value, (ast.List, ast.Dict, ast.ListComp))
+                stored = [side for side in ast.walk(target) if isinstance(side, ast.Name)]
+                (made if fresh else other).update(side.id for side in stored if isinstance(side.ctx, ast.Store))
+        elif isinstance(node, (ast.For, ast.comprehension)):
+            other |= {side.id for side in ast.walk(node.target) if isinstance(side, ast.Name)}
+    return made - other
+
+
+def is_plain_number(node):
+    """Tell whether the code says that this is a number, as L5 asks where a class has an order."""
+    if isinstance(node, ast.Constant):
+        return isinstance(node.value, int)
+    if isinstance(node, ast.BinOp):
+        return is_plain_number(node.left) and is_plain_number(node.right)
+    if isinstance(node, (ast.ListComp, ast.List)):
+        return all(is_plain_number(side) for side in (node.elts if isinstance(node, ast.List) else [node.elt]))
+    return isinstance(node, ast.Call) and isinstance(node.func, ast.Name) and node.func.id in NUMBERS
+
+
+class Operators(unittest.TestCase):
+    def test_orders_are_asked_of_numbers_only(self):
+        self.assertTrue([node for path, node in nodes(ast.FunctionDef) if node.name in ORDERS])
+        for path, node in nodes(ast.Call):
+            if isinstance(node.func, ast.Name) and node.func.id in ("min", "max", "sorted"):
+                self.assertTrue(any(is_plain_number(side) for side in node.args), where(path, node))
+            if isinstance(node.func, ast.Attribute):
+                self.assertNotEqual(node.func.attr, "sort", where(path, node))
+
+    def test_attributes_are_assigned_when_an_object_is_made(self):
+        for path, function in nodes(ast.FunctionDef):
+            if function.name != "__init__":
+                for node in ast.walk(function):
+                    stored = isinstance(node, ast.Attribute) and not isinstance(node.ctx, ast.Load)
+                    self.assertFalse(stored, where(path, function))
+
+    def test_functions_change_only_what_they_made(self):
+        for path, function in nodes(ast.FunctionDef):
+            mine = own_lists(function)
+            for node in ast.walk(function):
+                if isinstance(node, ast.Subscript) and not isinstance(node.ctx, ast.Load):
+                    self.assertIn(ast.unparse(node.value), mine, where(path, node))
+                if isinstance(node, ast.Call) and isinstance(node.func, ast.Attribute) and node.func.attr in CHANGES:
+                    self.assertIn(ast.unparse(node.func.value), mine, where(path, node))
+
+    def test_signs_that_assign(self):
+        for path, node in nodes(ast.AugAssign):
+            self.assertIsInstance(node.target, ast.Name, where(path, node))
+            self.assertIsInstance(node.op, (ast.Add, ast.Sub, ast.FloorDiv), where(path, node))
+            if isinstance(node.op, ast.Add):
+                self.assertIsInstance(node.value, ast.Constant, where(path, node))
+
+    def test_not_implemented_is_returned_where_it_may_be(self):
+        allowed = set()
+        for path, function in nodes(ast.FunctionDef):
+            if function.name in COMPARE_OR_COUNT:
+                for node in ast.walk(function):
+                    if isinstance(node, ast.Return) and isinstance(node.value, ast.Name):
+                        allowed.add((path, node.value.lineno, node.value.col_offset))
+        for path, node in nodes(ast.Name):
+            if node.id == "NotImplemented":
+                self.assertIn((path, node.lineno, node.col_offset), allowed, where(path, node))
+
+    def test_equality_and_length_assign_nothing(self):
+        for path, function in nodes(ast.FunctionDef):
+            if function.name in ("__eq__", "__len__", "__repr__", "__str__"):
+                for node in ast.walk(function):
+                    self.assertNotIsInstance(node, (ast.Assign, ast.AugAssign, ast.NamedExpr), where(path, function))
+
+    def test_iteration_is_one_statement(self):
+        for path, function in nodes(ast.FunctionDef):
+            if function.name == "__iter__":
+                self.assertEqual(len(function.body), 1, where(path, function))
+                self.assertRegex(ast.unparse(function.body[0]), r"^(return iter\(self\.\w+\)|raise TypeError\(.*\))$")
 
 
 if __name__ == "__main__":

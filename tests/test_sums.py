@@ -111,6 +111,17 @@ class Sums(unittest.TestCase):
         self.assertEqual(f + f - f, f)
 
 
+    def test_thousands_of_terms(self):
+        for prime in PRIMES:
+            f = Filter(prime, [(k, -1) for k in range(-1000, 1600)])
+            for many in (1, 2, 1023, 1024, 1025, 2100):
+                g = Filter(prime, [(k, -1) for k in range(many)])
+                # Each coefficient counts the pairs of terms whose offsets have this sum.
+                wanted = [(k, min(k + 1001, many, 1600 + many - 1 - k)) for k in range(-1000, 1600 + many - 1)]
+                self.assertEqual(told(f * g), added(prime, wanted))
+                self.assertEqual(g * f, f * g)
+
+
 class Powers(unittest.TestCase):
     def test_power_0_has_one_term(self):
         for prime in PRIMES:

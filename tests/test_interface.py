@@ -1,0 +1,77 @@
+"""The interface: what stands in which file, under which names and with which arguments."""
+
+import importlib
+import inspect
+import unittest
+
+FUNCTIONS = {
+    "division": {"gcd": "f, g", "lcm": "f, g", "divides": "g, f"},
+    "solving": {"solve": "f, y, digits=None"},
+}
+CLASSES = {
+    ("filters", "Filter"): {
+        "__init__": "prime, terms=()", "shift": "prime, offset", "terms": "", "low": "", "high": "", "span": "",
+        "normal": "", "__call__": "x",
+    },
+    ("sequences", "Sequence"): {
+        "__init__": "rule, digits", "zero": "prime", "repeated": "prime, word", "rule": "", "digits": "start, count",
+        "moved": "k",
+    },
+    ("tables", "Table"): {
+        "__init__": "prime, width, rows=()", "rows": "", "factors": "row", "least": "", "rank": "", "rest": "row",
+        "checks": "", "__call__": "sequences", "__len__": "", "__iter__": "",
+    },
+    ("worlds", "World"): {
+        "__init__": "prime, width, rules=()", "rules": "", "is_case": "thing", "zeros": "", "everything": "",
+        "nothing": "",
+    },
+    ("worlds", "Watcher"): {
+        "__init__": "world, rows=()", "rows": "", "base": "", "is_silent": "", "__call__": "case", "__len__": "",
+        "__iter__": "",
+    },
+}
+OPERATORS = {
+    ("filters", "Filter"): "getitem bool add sub neg mul rmul pow floordiv mod eq",
+    ("sequences", "Sequence"): "getitem bool add sub neg mul rmul eq",
+    ("tables", "Table"): "contains add mul and le eq",
+    ("worlds", "World"): "eq",
+    ("worlds", "Watcher"): "contains add and le lt eq",
+}
+CLASS_METHODS = ("shift", "zero", "repeated")
+
+
+def module(name):
+    return importlib.import_module(f"seenrows.{name}")
+
+
+def parameters(thing, without_self):
+    told = list(inspect.signature(thing).parameters.values())[1 if without_self else 0:]
+    return ", ".join(str(one) for one in told)
+
+
+class Interface(unittest.TestCase):
+    def test_functions(self):
+        for file, functions in FUNCTIONS.items():
+            for name, told in functions.items():
+                function = getattr(module(file), name)
+                self.assertEqual((function.__module__, function.__name__), (f"seenrows.{file}", name))
+                self.assertEqual(parameters(function, False), told)
+
+    def test_classes_define_their_methods_themselves(self):
+        for (file, name), methods in CLASSES.items():
+            own = getattr(module(file), name)
+            self.assertEqual((own.__module__, own.__name__), (f"seenrows.{file}", name))
+            for method, told in methods.items():
+                self.assertIn(method, vars(own), name)
+                is_class_method = isinstance(vars(own)[method], classmethod)
+                self.assertIs(is_class_method, method in CLASS_METHODS, (name, method))
+                self.assertEqual(parameters(getattr(own, method), not is_class_method), told, (name, method))
+
+    def test_operators(self):
+        for (file, name), operators in OPERATORS.items():
+            for operator in operators.split():
+                self.assertIn(f"__{operator}__", vars(getattr(module(file), name)), name)
+
+
+if __name__ == "__main__":
+    unittest.main()
