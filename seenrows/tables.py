@@ -34,11 +34,24 @@ def lines_with_tails(t):
     return [line + unit_row(t.prime, len(t), place) for place, line in enumerate(t.lines)]
 
 
+def all_factors(t, rows):
+    """Return for each row the factors with which it is a combination of the table's rows, None if one is none."""
+    steps = settled(t.prime, staircase(t.prime, lines_with_tails(t), t.width)[0])
+    found = []
+    for row in rows:
+        left = cut_down(tuple(row) + empty_row(t.prime, len(t)), steps)
+        if has_terms(left[:t.width]):
+            return None
+        found.append([-f for f in left[t.width:]])
+    return found
+
+
 def applied(prime, row, sequences):
     """Return the sum of the filters of a row applied to the sequences in order."""
     total = Sequence.zero(prime)
     for f, x in zip(row, sequences):
-        total = total + x.filtered(f)
+        if f and x:
+            total = total + x.filtered(f)
     return total
 
 
@@ -64,11 +77,8 @@ class Table:
     def factors(self, row):
         """Return filters, one for each row of the table, with which the row is a combination, or None."""
         check_row(self, row)
-        steps = settled(self.prime, staircase(self.prime, lines_with_tails(self), self.width)[0])
-        left = cut_down(tuple(row) + empty_row(self.prime, len(self)), steps)
-        if has_terms(left[:self.width]):
-            return None
-        return [-f for f in left[self.width:]]
+        found = all_factors(self, [row])
+        return None if found is None else found[0]
 
     def least(self):
         """Return the least table with the same combinations."""

@@ -3,7 +3,7 @@
 from seenrows.errors import NotCase, UnlikeWorlds
 from seenrows.rows import unit_row
 from seenrows.sequences import Sequence, is_sequences
-from seenrows.tables import Table
+from seenrows.tables import Table, all_factors
 
 
 def check_worlds(watcher, other):
@@ -25,6 +25,15 @@ def own_table(watcher):
 def sight(watcher):
     """Return the table of the rows of a watcher, then the rules of its world."""
     return own_table(watcher) + watcher.world.rule_table
+
+
+def known_by(watcher, rows):
+    """Return for each row the factors, one for each row of the watcher, that make it up to a silent row.
+
+    None is returned if the watcher does not know one of the rows.
+    """
+    found = all_factors(sight(watcher), rows)
+    return None if found is None else [factors[:len(watcher)] for factors in found]
 
 
 class World:

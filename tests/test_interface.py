@@ -7,6 +7,10 @@ import unittest
 FUNCTIONS = {
     "division": {"gcd": "f, g", "lcm": "f, g", "divides": "g, f"},
     "solving": {"solve": "f, y, digits=None"},
+    "telling": {"formula": "watcher, other", "is_formula": "watcher, other, thing", "twins": "watcher, other"},
+    "views": {"case_of": "watcher, view", "broken": "watcher, view", "worked": "watcher, view, other"},
+    "lacking": {"lacks": "watcher, other", "missing": "watcher, other"},
+    "hiding": {"leak": "watcher, other"},
 }
 CLASSES = {
     ("filters", "Filter"): {
@@ -29,7 +33,9 @@ CLASSES = {
         "__init__": "world, rows=()", "rows": "", "base": "", "is_silent": "", "__call__": "case", "__len__": "",
         "__iter__": "",
     },
+    ("lacking", "Missing"): {"rows": "", "spots": "", "case": "shown, digits", "worked": "view, shown, digits"},
 }
+PROPERTIES = {("lacking", "Missing"): "counts"}
 OPERATORS = {
     ("filters", "Filter"): "getitem bool add sub neg mul rmul pow floordiv mod eq",
     ("sequences", "Sequence"): "getitem bool add sub neg mul rmul eq",
@@ -66,6 +72,10 @@ class Interface(unittest.TestCase):
                 is_class_method = isinstance(vars(own)[method], classmethod)
                 self.assertIs(is_class_method, method in CLASS_METHODS, (name, method))
                 self.assertEqual(parameters(getattr(own, method), not is_class_method), told, (name, method))
+
+    def test_properties(self):
+        for (file, name), told in PROPERTIES.items():
+            self.assertIs(type(vars(getattr(module(file), name))[told]), property)
 
     def test_operators(self):
         for (file, name), operators in OPERATORS.items():
