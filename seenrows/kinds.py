@@ -1,6 +1,8 @@
 """Questions about passed objects, of which nothing is known yet."""
 
 PRIMES = (2, 3, 5, 7)
+LETTERS = "abcdefghijklmnopqrstuvwxyz"
+LONGEST_NAME = 8
 
 
 def is_int(thing):
@@ -33,11 +35,28 @@ def first_bad_term(terms):
     return None
 
 
+def is_count(thing):
+    """Tell whether the thing is an integer from 1 on."""
+    return is_int(thing) and thing >= 1
+
+
+def is_below(limit, thing):
+    """Tell whether the thing is an integer from 0 on that is less than the limit."""
+    return is_int(thing) and 0 <= thing < limit
+
+
 def is_digit(prime, thing):
     """Tell whether the thing is a digit of the prime."""
-    return is_int(thing) and 0 <= thing < prime
+    return is_below(prime, thing)
 
 
 def is_digits(prime, count, thing):
     """Tell whether the thing is a list of just so many digits of the prime."""
     return is_list(thing) and len(thing) == count and all([is_digit(prime, digit) for digit in thing])
+
+
+def is_name(thing):
+    """Tell whether the thing is a string of a few lower-case letters."""
+    if not isinstance(thing, str) or not 1 <= len(thing) <= LONGEST_NAME:
+        return False
+    return all([sign in LETTERS for sign in thing])

@@ -1,7 +1,7 @@
 """Tables: rows of filters, and what can be combined from them."""
 
 from seenrows.errors import BadPrime, BadRow, BadSequences, BadWidth, NoRows, UnlikeTables
-from seenrows.kinds import is_int, is_prime
+from seenrows.kinds import is_count, is_prime
 from seenrows.rows import empty_row, first_bad_row, is_row, row_sum, unit_row
 from seenrows.sequences import Sequence, is_sequences
 from seenrows.staircase import cut_down, settled, staircase
@@ -61,7 +61,7 @@ class Table:
     def __init__(self, prime, width, rows=()):
         if not is_prime(prime):
             raise BadPrime(prime)
-        if not is_int(width) or width < 1:
+        if not is_count(width):
             raise BadWidth(width)
         index = first_bad_row(prime, width, rows)
         if index is not None:

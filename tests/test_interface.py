@@ -11,6 +11,13 @@ FUNCTIONS = {
     "views": {"case_of": "watcher, view", "broken": "watcher, view", "worked": "watcher, view, other"},
     "lacking": {"lacks": "watcher, other", "missing": "watcher, other"},
     "hiding": {"leak": "watcher, other"},
+    "strands": {
+        "strand": "x, n, r", "strands": "x, n", "woven": "parts", "strand_table": "f, n", "strand_world": "world, n",
+        "strand_watcher": "watcher, n, places",
+    },
+    "texts": {
+        "write_filter": "f", "read_filter": "prime, text", "write_circle": "circle", "read_circle": "text",
+    },
 }
 CLASSES = {
     ("filters", "Filter"): {
@@ -33,6 +40,14 @@ CLASSES = {
         "__init__": "world, rows=()", "rows": "", "base": "", "is_silent": "", "__call__": "case", "__len__": "",
         "__iter__": "",
     },
+    ("circles", "Circle"): {
+        "__init__": "world, watchers=()", "names": "", "group": "*names", "knowing": "other", "blind": "other",
+        "needless": "", "fewest": "", "__len__": "", "__iter__": "",
+    },
+    ("houses", "House"): {
+        "__init__": "world", "put": "name, watcher", "leave": "name", "hand": "giver, taker", "undo": "", "deeds": "",
+        "wish": "name, who, other, word", "met": "name", "wishes": "", "tried": "work",
+    },
     ("lacking", "Missing"): {"rows": "", "spots": "", "case": "shown, digits", "worked": "view, shown, digits"},
 }
 PROPERTIES = {("lacking", "Missing"): "counts"}
@@ -42,6 +57,8 @@ OPERATORS = {
     ("tables", "Table"): "contains add mul and le eq",
     ("worlds", "World"): "eq",
     ("worlds", "Watcher"): "contains add and le lt eq",
+    ("circles", "Circle"): "contains getitem",
+    ("houses", "House"): "setitem",
 }
 CLASS_METHODS = ("shift", "zero", "repeated")
 
@@ -76,6 +93,9 @@ class Interface(unittest.TestCase):
     def test_properties(self):
         for (file, name), told in PROPERTIES.items():
             self.assertIs(type(vars(getattr(module(file), name))[told]), property)
+
+    def test_a_house_is_a_circle(self):
+        self.assertEqual(module("houses").House.__bases__, (module("circles").Circle,))
 
     def test_operators(self):
         for (file, name), operators in OPERATORS.items():

@@ -26,7 +26,7 @@ BARRED_STATEMENTS = (ast.Global, ast.AsyncFunctionDef, ast.AsyncFor, ast.AsyncWi
 MODULE_LEVEL = (ast.ImportFrom, ast.FunctionDef, ast.ClassDef, ast.Assign, ast.Expr)
 TAKE_LISTS = "sum min max sorted any all".split()
 ORDERS = "__lt__ __le__ __gt__ __ge__".split()
-NUMBERS = "len int ord".split()
+PLAIN = "len int ord str".split()
 COMPARE_OR_COUNT = """__eq__ __lt__ __le__ __gt__ __ge__ __ne__ __add__ __sub__ __mul__ __floordiv__ __mod__ __pow__ __radd__
     __rsub__ __rmul__ __rfloordiv__ __rmod__""".split()
 CHANGES = "append extend insert pop remove reverse clear update setdefault".split()
@@ -211,15 +211,15 @@ def own_lists(function):
     return made - other
 
 
-def is_plain_number(node):
-    """Tell whether the code says that this is a number, as L5 asks where a class has an order."""
+def is_plain(node):
+    """Tell whether the code says that this is a number or a string, as L5 asks where a class has an order."""
     if isinstance(node, ast.Constant):
         return isinstance(node.value, int)
     if isinstance(node, ast.BinOp):
-        return is_plain_number(node.left) and is_plain_number(node.right)
+        return is_plain(node.left) and is_plain(node.right)
     if isinstance(node, (ast.ListComp, ast.List)):
-        return all(is_plain_number(side) for side in (node.elts if isinstance(node, ast.List) else [node.elt]))
-    return isinstance(node, ast.Call) and isinstance(node.func, ast.Name) and node.func.id in NUMBERS
+        return all(is_plain(side) for side in (node.elts if isinstance(node, ast.List) else [node.elt]))
+    return isinstance(node, ast.Call) and isinstance(node.func, ast.Name) and node.func.id in PLAIN
 
 
 class Operators(unittest.TestCase):
@@ -227,13 +227,14 @@ class Operators(unittest.TestCase):
         self.assertTrue([node for path, node in nodes(ast.FunctionDef) if node.name in ORDERS])
         for path, node in nodes(ast.Call):
             if isinstance(node.func, ast.Name) and node.func.id in ("min", "max", "sorted"):
-                self.assertTrue(any(is_plain_number(side) for side in node.args), where(path, node))
+                self.assertTrue(any(is_plain(side) for side in node.args), where(path, node))
             if isinstance(node.func, ast.Attribute):
                 self.assertNotEqual(node.func.attr, "sort", where(path, node))
 
     def test_attributes_are_assigned_when_an_object_is_made(self):
+        """Only houses change, and they do so in plain methods."""
         for path, function in nodes(ast.FunctionDef):
-            if function.name != "__init__":
+            if function.name != "__init__" and (path.stem != "houses" or function.name.startswith("__")):
                 for node in ast.walk(function):
                     stored = isinstance(node, ast.Attribute) and not isinstance(node.ctx, ast.Load)
                     self.assertFalse(stored, where(path, function))
@@ -246,6 +247,21 @@ class Operators(unittest.TestCase):
                     self.assertIn(ast.unparse(node.value), mine, where(path, node))
                 if isinstance(node, ast.Call) and isinstance(node.func, ast.Attribute) and node.func.attr in CHANGES:
                     self.assertIn(ast.unparse(node.func.value), mine, where(path, node))
+
+    def test_a_finally_only_assigns(self):
+        for path, node in nodes(ast.Try):
+            for statement in node.finalbody:
+                self.assertIsInstance(statement, ast.Assign, where(path, statement))
+                for side in ast.walk(statement):
+                    self.assertNotIsInstance(side, (ast.Call, ast.Subscript, ast.BinOp, ast.UnaryOp, ast.Compare))
+
+    def test_what_stands_behind_a_star(self):
+        for path, node in nodes((ast.Call, ast.Dict)):
+            starred = [side.value for side in node.args if isinstance(side, ast.Starred)] if hasattr(node, "args") else []
+            if isinstance(node, ast.Dict):
+                starred = [side for key, side in zip(node.keys, node.values) if key is None]
+            for side in starred:
+                self.assertRegex(ast.unparse(side), r"^[a-z]+([.][a-z]+)?$", where(path, node))
 
     def test_signs_that_assign(self):
         for path, node in nodes(ast.AugAssign):
