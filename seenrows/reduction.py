@@ -67,8 +67,11 @@ def split(prime, vectors):
     """Return the one vector with a first column, and the others without it; together they combine to the same.
 
     Some of the vectors has a first column that is not empty. Each combination without a first column is one of the
-    others, and the others have as small offsets as they can.
+    others. Where there is something to combine, the others have as small offsets as they can.
     """
+    begun = [vector for vector in vectors if vector[0]]
+    if len(begun) == 1:
+        return begun[0], [vector[1:] for vector in vectors if not vector[0]]
     columns = len(vectors[0])
     # The weight exceeds what any column but the first can reach in the end, so only one vector keeps a first column.
     weight = greatest_sum(vectors) + 1
